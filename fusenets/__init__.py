@@ -1,0 +1,1 @@
+"""Fusenets: when everything in a net of fuses burns."""

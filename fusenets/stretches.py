@@ -1,0 +1,61 @@
+"""Stretches: the parts of fuses between places from which fire runs along a fuse."""
+
+from fusenets.ratios import Ratio, in_order
+
+
+class Stretch:
+    """A part of a fuse, from one distance to another; fire enters it at its ends only."""
+
+    def __init__(self, fuse, low, low_time, high, high_time):
+        self.fuse = fuse
+        self.low = low
+        self.low_time = low_time
+        self.high = high
+        self.high_time = high_time
+
+    def last_time(self):
+        """The time at which the last point of the stretch burns."""
+        return (self.low_time + self.high_time + self.high - self.low).over(2)
+
+    def last_place(self):
+        """The last point to burn as a place, or None if it is an end of the stretch."""
+        time = self.last_time()
+        if time == self.low_time or time == self.high_time:
+            return None
+        return self.fuse, self.low + time - self.low_time
+
+    def runs(self):
+        """Tuples (start, stop) of the times between which fire runs in from an end."""
+        stop = self.last_time()
+        return [(start, stop) for start in (self.low_time, self.high_time) if start < stop]
+
+
+def unbeaten(marks):
+    """The tuples (distance, time) that fire from those before them does not reach sooner."""
+    kept = marks[:1]
+    for distance, time in marks[1:]:
+        before, start = kept[-1]
+        if time <= start + abs(distance - before):
+            kept.append((distance, time))
+    return kept
+
+
+def marks_on(fuses, sources, times, fuse):
+    """The ends of a fuse and the sources that give their places the time, as (distance, time)."""
+    one, other, length = fuses[fuse]
+    inside = [(point[1], time) for point, time in sources
+              if not isinstance(point, str) and point[0] == fuse]
+    marks = [(Ratio(0), times[one])] + in_order(inside) + [(length, times[other])]
+    return unbeaten(unbeaten(marks)[::-1])[::-1]
+
+
+def stretches_of(fuses, sources, times):
+    """The stretches of all fuses that burn, in the order of their places."""
+    rows = []
+    for fuse, (one, _, _) in enumerate(fuses):
+        if one in times:
+            marks = marks_on(fuses, sources, times, fuse)
+            ends = list(zip(marks, marks[1:]))
+            rows.extend([Stretch(fuse, low, start, high, end)
+                         for (low, start), (high, end) in ends if low < high])
+    return rows
