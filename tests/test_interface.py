@@ -1,0 +1,70 @@
+"""The interface: names, arguments, and where each function, class and method is defined."""
+
+import ast
+import inspect
+import unittest
+from importlib import import_module
+from pathlib import Path
+
+PACKAGE = Path(__file__).resolve().parent.parent / "fusenets"
+
+FUNCTIONS = {
+    "burning": {"burnt": "(fire, time)", "fronts": "(fire, time)", "time_for": "(fire, length)", "steps": "(fire)"},
+    "certificates": {"way_to": "(fire, point)", "way_sum": "(fire, point, way)", "labels_for": "(fire)",
+                     "check_labels": "(fire, value)"},
+    "centre": {"reach": "(net, point)", "reach_along": "(net, fuse)", "best_points": "(net)"},
+    "trees": {"fewest": "(net, time)", "cover": "(net, time)", "apart": "(net, time)", "is_cover": "(net, time, value)",
+              "is_apart": "(net, time, value)", "least_time": "(net, number)"},
+}
+
+CLASSES = {
+    ("ratios", "Ratio"): ("(top, bottom=1)", ["top", "bottom"], {"over": "(self, other)", "floor": "(self)"}),
+    ("nets", "Net"): ("(nodes, fuses)", ["nodes", "fuses", "length"], {
+        "is_point": "(self, value)", "point": "(self, value)", "distance": "(self, one, other)",
+        "is_connected": "(self)", "is_tree": "(self)"}),
+    ("fires", "Fire"): ("(net, lights)", ["net", "lights"], {
+        "__call__": "(self, point)", "times": "(self)", "source": "(self, point)", "end": "(self)", "last": "(self)",
+        "meetings": "(self)"}),
+}
+
+OPERATORS = {
+    ("ratios", "Ratio"): ["__add__", "__radd__", "__sub__", "__rsub__", "__mul__", "__rmul__", "__neg__", "__abs__",
+                          "__eq__", "__lt__", "__le__", "__gt__", "__ge__", "__bool__", "__repr__", "__str__"],
+    ("nets", "Net"): ["__contains__", "__mul__", "__eq__", "__len__"],
+}
+
+
+def defined(module):
+    """The names of the functions and classes that stand in the file of a module."""
+    tree = ast.parse((PACKAGE / f"{module}.py").read_text())
+    return {node.name for node in tree.body if isinstance(node, (ast.FunctionDef, ast.ClassDef))}
+
+
+class Interface(unittest.TestCase):
+    def test_functions(self):
+        for module, functions in FUNCTIONS.items():
+            for name, signature in functions.items():
+                with self.subTest(module=module, name=name):
+                    self.assertIn(name, defined(module))
+                    made = getattr(import_module(f"fusenets.{module}"), name)
+                    self.assertEqual(str(inspect.signature(made)), signature)
+
+    def test_classes(self):
+        for (module, name), (signature, properties, methods) in CLASSES.items():
+            with self.subTest(name=name):
+                self.assertIn(name, defined(module))
+                made = getattr(import_module(f"fusenets.{module}"), name)
+                self.assertEqual(str(inspect.signature(made)), signature)
+                for told in properties:
+                    self.assertIsInstance(vars(made)[told], property)
+                for told, wanted in methods.items():
+                    self.assertEqual(str(inspect.signature(vars(made)[told])), wanted)
+
+    def test_operators(self):
+        for (module, name), methods in OPERATORS.items():
+            made = getattr(import_module(f"fusenets.{module}"), name)
+            self.assertLessEqual(set(methods), set(vars(made)))
+
+
+if __name__ == "__main__":
+    unittest.main()
