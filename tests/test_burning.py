@@ -4,7 +4,7 @@ import unittest
 from fractions import Fraction
 from random import Random
 
-from cutting import Cut, fraction, plain, random_lights, random_net
+from cutting import Cut, plain, random_lights, random_net
 from fusenets.burning import burnt, fronts, steps, time_for
 from fusenets.errors import InvalidNumber
 from fusenets.fires import Fire

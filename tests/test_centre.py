@@ -9,7 +9,7 @@ from fusenets.centre import best_points, reach, reach_along
 from fusenets.errors import InvalidFuse, InvalidPoint
 from fusenets.nets import Net
 from fusenets.ratios import Ratio
-from odd import Strange, is_ratio, odd_numbers, odd_values, raised
+from odd import Strange, is_ratio, odd_numbers, odd_values
 
 QUARTER, EIGHTH = Fraction(1, 4), Fraction(1, 8)
 

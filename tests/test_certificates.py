@@ -4,7 +4,7 @@ import unittest
 from fractions import Fraction
 from random import Random
 
-from cutting import fraction, plain, random_lights, random_net, random_point
+from cutting import fraction, plain, random_lights, random_net
 from fusenets.certificates import check_labels, labels_for, way_sum, way_to
 from fusenets.errors import InvalidPoint
 from fusenets.fires import Fire

@@ -1,11 +1,10 @@
 """Nets: what they are made of, their points and distances."""
 
 import unittest
-from copy import deepcopy
 from fractions import Fraction
 from random import Random
 
-from cutting import Cut, distances_between, fraction, plain, random_net, random_point
+from cutting import Cut, distances_between, plain, random_net, random_point
 from fusenets.errors import InvalidNet, InvalidNumber, InvalidPoint
 from fusenets.nets import Net
 from fusenets.ratios import Ratio

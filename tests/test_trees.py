@@ -2,7 +2,6 @@
 
 import unittest
 from copy import deepcopy
-from fractions import Fraction
 from itertools import combinations
 from random import Random
 
