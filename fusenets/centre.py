@@ -4,10 +4,10 @@ Inside, lengths are whole numbers: they are multiplied by eight times their comm
 bottom, so that all distances and reaches that matter are whole, too.
 """
 
-from fusenets.errors import InvalidFuse
 from fusenets.fires import Fire
-from fusenets.nets import is_index, whole_fuses
-from fusenets.ratios import Ratio, common_bottom
+from fusenets.lines import turns
+from fusenets.nets import check_fuse, scale_of, whole_fuses
+from fusenets.ratios import Ratio
 from fusenets.spreading import lesser, node_times
 
 
@@ -18,11 +18,10 @@ def reach(net, point):
 
 def reach_along(net, fuse):
     """The ends of a fuse and the distances where the slope of the reach changes, with the reach."""
-    if not is_index(fuse, len(net)):
-        raise InvalidFuse(fuse)
+    check_fuse(net, fuse)
     if not net.is_connected():
         return None
-    scale = 8 * common_bottom([length for _, _, length in net.fuses])
+    scale = 8 * scale_of(net, [])
     rows = turns(Walk(whole_fuses(net, scale), fuse))
     return [(Ratio(distance, scale), Ratio(far, scale)) for distance, far in rows]
 
@@ -42,7 +41,7 @@ class Walk:
         """How far a node is from a distance on the fuse."""
         return lesser(self.from_one[node] + distance, self.from_other[node] + self.size - distance)
 
-    def fars(self, distance):
+    def heights(self, distance):
         """How far the farthest point is on each other fuse, and on both parts of this one."""
         nears = {node: self.near(node, distance) for node in self.from_one}
         one, other = self.ends
@@ -56,44 +55,6 @@ class Walk:
         for node in self.from_one:
             places[(self.size + self.from_other[node] - self.from_one[node]) // 2] = True
         return sorted([int(place) for place in places])
-
-
-def greatest(numbers):
-    """The greatest of some whole numbers."""
-    return max([int(number) for number in numbers])
-
-
-def crossings(start, stop, starts, stops):
-    """Where between two distances the greatest of lines with slopes -1, 0 and 1 may bend."""
-    tops = {}
-    for low, high in zip(starts, stops):
-        slope = (high - low) // (stop - start)
-        tops[slope] = greatest([low, tops.get(slope, low)])
-    found = {}
-    for flat in tops:
-        for steep in tops:
-            if flat < steep:
-                found[start + (tops[flat] - tops[steep]) // (steep - flat)] = True
-    return sorted([int(place) for place in found if start < place < stop])
-
-
-def turns(walk):
-    """The tuples (distance, reach) at the ends and where the slope of the reach changes."""
-    bends = walk.bends()
-    places = bends[:1]
-    for start, stop in zip(bends, bends[1:]):
-        places.extend(crossings(start, stop, walk.fars(start), walk.fars(stop)))
-        places.append(stop)
-    rows = [(place, greatest(walk.fars(place))) for place in places]
-    inner = [row for before, row, after in zip(rows, rows[1:], rows[2:]) if bent(before, row, after)]
-    return rows[:1] + inner + rows[-1:]
-
-
-def bent(before, here, after):
-    """Whether the slope changes between three neighbouring tuples (distance, reach)."""
-    left = (here[1] - before[1]) * (after[0] - here[0])
-    right = (after[1] - here[1]) * (here[0] - before[0])
-    return left != right
 
 
 def best_points(net):

@@ -1,7 +1,8 @@
 """Fires: nets that are lit, and when their points burn."""
 
 from fusenets.errors import InvalidLights
-from fusenets.ratios import Ratio, as_ratio, in_order, is_number
+from fusenets.nets import whole_point
+from fusenets.ratios import Ratio, as_ratio, in_order, is_number, whole
 from fusenets.spreading import node_times, time_at
 from fusenets.stretches import stretches_of
 
@@ -20,6 +21,11 @@ def check_lights(net, value):
     for index, light in enumerate(value):
         if not is_light(net, light):
             raise InvalidLights(index)
+
+
+def whole_lights(lights, scale):
+    """Lights as they are returned, with numbers that the scale makes whole."""
+    return [(whole_point(point, scale), whole(time, scale)) for point, time in lights]
 
 
 class Fire:
@@ -41,6 +47,11 @@ class Fire:
     def lights(self):
         """The list of the lights, with points as they are returned."""
         return list(self._lights)
+
+    def numbers(self):
+        """All distances and times of the lights."""
+        distances = [point[1] for point, _ in self._lights if not isinstance(point, str)]
+        return distances + [time for _, time in self._lights]
 
     def __call__(self, point):
         return time_at(self._net.fuses, self._lights, self._times, self._net.point(point))

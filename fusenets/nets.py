@@ -1,7 +1,7 @@
 """Nets of fuses, their nodes and points."""
 
-from fusenets.errors import InvalidNet, InvalidNumber, InvalidPoint
-from fusenets.ratios import Ratio, as_ratio, is_integer, is_number, is_positive, total, whole
+from fusenets.errors import InvalidFuse, InvalidNet, InvalidNumber, InvalidPoint
+from fusenets.ratios import Ratio, as_ratio, common_bottom, is_integer, is_number, is_positive, total, whole
 from fusenets.spreading import node_times, time_at
 
 MOST_NODES = 30
@@ -41,6 +41,24 @@ def are_fuses(nodes, value):
 def is_index(value, number):
     """Whether any value is the index of one of a number of things."""
     return is_integer(value) and 0 <= value < number
+
+
+def check_fuse(net, value):
+    """Raises InvalidFuse unless any value is the index of a fuse."""
+    if not is_index(value, len(net)):
+        raise InvalidFuse(value)
+
+
+def scale_of(net, numbers):
+    """What makes all lengths of a net and some numbers whole."""
+    return common_bottom([length for _, _, length in net.fuses] + numbers)
+
+
+def whole_point(point, scale):
+    """A point as it is returned, with its distance multiplied by the scale."""
+    if isinstance(point, str):
+        return point
+    return point[0], whole(point[1], scale)
 
 
 def whole_fuses(net, scale):

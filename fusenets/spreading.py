@@ -40,21 +40,39 @@ def soonest(times):
     return best
 
 
-def node_times(fuses, sources):
-    """A dict from each node that burns to its time."""
-    waiting = {}
+def first_times(fuses, sources):
+    """A dict from the nodes to which fire of the sources comes first to the times."""
+    times = {}
     for point, time in sources:
         for node, distance in exits(fuses, point):
-            waiting[node] = lesser(waiting.get(node), time + distance)
+            times[node] = lesser(times.get(node), time + distance)
+    return times
+
+
+def spread(fuses, starts):
+    """A dict from each node that burns to its time, from a dict of the times at which nodes are lit.
+
+    The nodes may be anything that can be a key.
+    """
+    beside = {}
+    for one, other, length in fuses:
+        beside.setdefault(one, []).append((other, length))
+        beside.setdefault(other, []).append((one, length))
+    waiting = {node: starts[node] for node in starts}
     times = {}
     while waiting:
         here = soonest(waiting)
         now = waiting.pop(here)
         times[here] = now
-        for node, length in neighbours(fuses, here):
+        for node, length in beside.get(here, []):
             if node not in times:
                 waiting[node] = lesser(waiting.get(node), now + length)
     return times
+
+
+def node_times(fuses, sources):
+    """A dict from each node that burns to its time."""
+    return spread(fuses, first_times(fuses, sources))
 
 
 def straight(one, other):

@@ -5,8 +5,8 @@ Inside, lengths and times are whole numbers: all are multiplied by a common bott
 
 from fusenets.climbing import Lighting, climbs_of
 from fusenets.errors import InvalidNumber, LimitExceeded, NotATree
-from fusenets.nets import whole_fuses
-from fusenets.ratios import Ratio, common_bottom, is_integer, is_positive, whole
+from fusenets.nets import scale_of, whole_fuses, whole_point
+from fusenets.ratios import Ratio, is_integer, is_positive, whole
 from fusenets.spreading import neighbours, node_times, time_at
 from fusenets.stretches import stretches_of
 
@@ -24,18 +24,6 @@ def check_time(net, time):
     check_tree(net)
     if not is_positive(time):
         raise InvalidNumber(time)
-
-
-def scale_of(net, numbers):
-    """What makes all lengths of a net and some numbers whole."""
-    return common_bottom([length for _, _, length in net.fuses] + numbers)
-
-
-def whole_point(point, scale):
-    """A point as it is returned, with its distance multiplied by the scale."""
-    if isinstance(point, str):
-        return point
-    return point[0], whole(point[1], scale)
 
 
 def lighting_of(net, time, scale):

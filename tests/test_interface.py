@@ -15,6 +15,9 @@ FUNCTIONS = {
     "centre": {"reach": "(net, point)", "reach_along": "(net, fuse)", "best_points": "(net)"},
     "trees": {"fewest": "(net, time)", "cover": "(net, time)", "apart": "(net, time)", "is_cover": "(net, time, value)",
               "is_apart": "(net, time, value)", "least_time": "(net, number)"},
+    "leaving": {"times_without": "(fire, fuse)", "superfluous": "(fire)", "critical_length": "(fire, fuse)",
+                "end_by_length": "(fire, fuse)", "best_to_shorten": "(fire, amount)"},
+    "joining": {"joined": "(one, other, pairs)"},
 }
 
 CLASSES = {
@@ -25,6 +28,11 @@ CLASSES = {
     ("fires", "Fire"): ("(net, lights)", ["net", "lights"], {
         "__call__": "(self, point)", "times": "(self)", "source": "(self, point)", "end": "(self)", "last": "(self)",
         "meetings": "(self)"}),
+    ("courses", "Course"): ("(fire, *, delays=None, valves=(), cuts=(), triggers=())", [], {
+        "__call__": "(self, point)", "times": "(self)", "burnt_out": "(self, fuse)", "end": "(self)", "events": "(self)"}),
+    ("joining", "Chain"): ("(net, left, right, number, *, first=None, last=None)", [], {
+        "joint_time": "(self, index)", "time_in": "(self, link, point)", "end": "(self)", "burnt": "(self, time)"}),
+    ("ladders", "Ladder"): ("(net, left, right, number)", [], {"distance": "(self, one, other)"}),
 }
 
 OPERATORS = {

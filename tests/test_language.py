@@ -60,6 +60,10 @@ def is_plain(node):
         return is_plain(node.elt)
     if isinstance(node, ast.List):
         return all(is_plain(item) for item in node.elts)
+    if isinstance(node, ast.UnaryOp):
+        return is_plain(node.operand)
+    if isinstance(node, ast.Call) and called(node) == "set":
+        return is_plain(node.args[0])
     return isinstance(node, ast.Constant) or isinstance(node, ast.Call) and called(node) in ("int", "len", "ord", "str", "repr")
 
 
@@ -99,6 +103,7 @@ class Names(unittest.TestCase):
                     continue
                 top, other = node.module.split(".")
                 defined = {item.name for item in trees[other].body if isinstance(item, (ast.FunctionDef, ast.ClassDef))}
+                defined |= {item.targets[0].id for item in trees[other].body if isinstance(item, ast.Assign)}
                 self.assertEqual(top, "fusenets")
                 self.assertLessEqual(names, defined, (module, other))
                 before[module].add(other)

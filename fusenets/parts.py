@@ -1,0 +1,52 @@
+"""Parts: what the places of some points cut the fuses of a net into. All numbers are whole."""
+
+
+class Part:
+    """A part of a fuse between two neighbouring spots, and when fire enters it there."""
+
+    def __init__(self, fuse, low, high, ends):
+        self.fuse = fuse
+        self.low = low
+        self.size = high - low
+        self.ends = ends
+        self.starts = [None, None]
+
+    def out_time(self):
+        """The time at which all of the part has burnt by the known entries, or None."""
+        first, second = self.starts
+        if first is None and second is None:
+            return None
+        if first is None:
+            return second + self.size
+        if second is None:
+            return first + self.size
+        if abs(first - second) >= self.size:
+            return min(int(first), int(second)) + self.size
+        return (first + second + self.size) // 2
+
+    def arrivals(self, distance):
+        """The times at which fire from the ends comes to a distance behind the first end."""
+        first, second = self.starts
+        times = []
+        if first is not None:
+            times.append(first + distance)
+        if second is not None:
+            times.append(second + (self.size - distance))
+        return times
+
+
+def parts_of(fuses, points):
+    """The parts into which some points cut the fuses, in the order of their places."""
+    inside = {}
+    for point in points:
+        if not isinstance(point, str):
+            fuse, distance = point
+            inside[fuse] = inside.get(fuse, []) + [distance]
+    rows = []
+    for fuse, (one, other, size) in enumerate(fuses):
+        marks = sorted(set([int(distance) for distance in inside.get(fuse, [])]))
+        spots = [one] + [(fuse, mark) for mark in marks] + [other]
+        places = [0] + marks + [size]
+        for index in range(len(marks) + 1):
+            rows.append(Part(fuse, places[index], places[index + 1], (spots[index], spots[index + 1])))
+    return rows
