@@ -23,6 +23,11 @@ def check_lights(net, value):
             raise InvalidLights(index)
 
 
+def as_lights(net, lights):
+    """Valid lights as they are returned."""
+    return [(net.point(point), as_ratio(time)) for point, time in lights]
+
+
 def whole_lights(lights, scale):
     """Lights as they are returned, with numbers that the scale makes whole."""
     return [(whole_point(point, scale), whole(time, scale)) for point, time in lights]
@@ -34,7 +39,7 @@ class Fire:
     def __init__(self, net, lights):
         check_lights(net, lights)
         self._net = net
-        self._lights = [(net.point(point), as_ratio(time)) for point, time in lights]
+        self._lights = as_lights(net, lights)
         self._times = node_times(net.fuses, self._lights)
         self._stretches = stretches_of(net.fuses, self._lights, self._times)
 

@@ -18,6 +18,10 @@ FUNCTIONS = {
     "leaving": {"times_without": "(fire, fuse)", "superfluous": "(fire)", "critical_length": "(fire, fuse)",
                 "end_by_length": "(fire, fuse)", "best_to_shorten": "(fire, amount)"},
     "joining": {"joined": "(one, other, pairs)"},
+    "watching": {"contradiction": "(net, observations)", "light_time": "(net, observations, point)",
+                 "explaining": "(net, observations)", "suspects": "(net, observations)", "node_to_watch": "(net, observations)"},
+    "texts": {"format_number": "(number)", "format_point": "(point)", "format_net": "(net)", "format_fire": "(fire)",
+              "parse_number": "(text)", "parse_point": "(text)", "parse_net": "(text)", "parse_fire": "(text)"},
 }
 
 CLASSES = {
@@ -33,12 +37,17 @@ CLASSES = {
     ("joining", "Chain"): ("(net, left, right, number, *, first=None, last=None)", [], {
         "joint_time": "(self, index)", "time_in": "(self, link, point)", "end": "(self)", "burnt": "(self, time)"}),
     ("ladders", "Ladder"): ("(net, left, right, number)", [], {"distance": "(self, one, other)"}),
+    ("workshop", "Workshop"): ("()", [], {
+        "act": "(self, user, action)", "undo": "(self, user)", "redo": "(self, user)", "log": "(self)", "names": "(self)",
+        "net_of": "(self, name)", "lights_of": "(self, name)", "fire_of": "(self, name)", "preview": "(self, actions, name)"}),
+    ("console", "Console"): ("()", [], {"execute": "(self, command)"}),
 }
 
 OPERATORS = {
     ("ratios", "Ratio"): ["__add__", "__radd__", "__sub__", "__rsub__", "__mul__", "__rmul__", "__neg__", "__abs__",
                           "__eq__", "__lt__", "__le__", "__gt__", "__ge__", "__bool__", "__repr__", "__str__"],
     ("nets", "Net"): ["__contains__", "__mul__", "__eq__", "__len__"],
+    ("workshop", "Workshop"): ["__contains__", "__len__"],
 }
 
 

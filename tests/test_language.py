@@ -143,7 +143,7 @@ class Names(unittest.TestCase):
         own = {node.name for _, node in walked(ast.FunctionDef)}
         for name, node in walked(ast.Call):
             if isinstance(node.func, ast.Attribute):
-                self.assertIn(node.func.attr, own | METHODS, name)
+                self.assertTrue(node.func.attr in own | METHODS, (name, node.func.attr))
                 self.assertFalse(node.keywords and node.func.attr in METHODS, name)
 
     def test_properties(self):
@@ -162,7 +162,7 @@ class Names(unittest.TestCase):
         stored = {node.attr for _, node in walked(ast.Attribute) if isinstance(node.ctx, ast.Store)}
         own = {node.name for _, node in walked(ast.FunctionDef)}
         read = {node.attr for _, node in walked(ast.Attribute) if isinstance(node.ctx, ast.Load)}
-        self.assertLessEqual(read, stored | own | METHODS)
+        self.assertEqual(read - stored - own - METHODS, set())
         for _, node in walked(ast.ClassDef):
             mine = {item.attr for item in ast.walk(node) if isinstance(item, ast.Attribute) and isinstance(item.ctx, ast.Store)}
             self.assertFalse(mine & {item.name for item in node.body if isinstance(item, ast.FunctionDef)}, node.name)
