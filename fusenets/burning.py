@@ -1,11 +1,14 @@
-"""How much of a net has burnt at a time, and how many fronts burn on."""
+"""How much of a net has burnt at a time, and how many fronts burn on.
+
+Inside, all times are whole numbers: they are multiplied by the unit of the fire.
+"""
 
 from fusenets.errors import InvalidNumber
-from fusenets.ratios import Ratio, in_order, is_number, is_positive
+from fusenets.ratios import Ratio, is_number, is_positive, parts
 
 
 def runs(fire):
-    """The tuples (start, stop) of the times between which each front runs."""
+    """The tuples (start, stop) of the times between which each front runs, in the fire's unit."""
     result = []
     for stretch in fire.stretches():
         result.extend(stretch.runs())
@@ -16,55 +19,62 @@ def burnt(fire, time):
     """The length of all that burns at this time or before."""
     if not is_number(time):
         raise InvalidNumber(time)
-    result = Ratio(0)
+    top, bottom = parts(time)
+    now = top * fire.unit()
+    result = 0
     for start, stop in runs(fire):
-        if time > stop:
-            result = result + (stop - start)
-        elif time > start:
-            result = result + (time - start)
-    return result
+        if now > stop * bottom:
+            result = result + (stop - start) * bottom
+        elif now > start * bottom:
+            result = result + now - start * bottom
+    return Ratio(result, bottom * fire.unit())
 
 
 def fronts(fire, time):
     """The number of places where the burnt part grows just after this time."""
     if not is_number(time):
         raise InvalidNumber(time)
-    return len([start for start, stop in runs(fire) if start <= time < stop])
+    top, bottom = parts(time)
+    now = top * fire.unit()
+    return len([start for start, stop in runs(fire) if start * bottom <= now < stop * bottom])
 
 
 def changes(fire):
     """The ascending list of tuples (time, change) where the number of fronts changes."""
-    starts = [(start, 1) for start, _ in runs(fire)]
-    stops = [(stop, -1) for _, stop in runs(fire)]
+    found = {}
+    for start, stop in runs(fire):
+        found[start] = found.get(start, 0) + 1
+        found[stop] = found.get(stop, 0) - 1
+    return [(time, found[time]) for time in sorted([int(time) for time in found]) if found[time] != 0]
+
+
+def whole_steps(fire):
+    """The list of (time, burnt length, fronts) for each time at which the number of fronts changes."""
     rows = []
-    for time, change in in_order(starts + stops):
-        if rows and rows[-1][0] == time:
-            change = change + rows.pop()[1]
-        rows.append((time, change))
-    return [row for row in rows if row[1] != 0]
+    done = number = before = 0
+    for time, change in changes(fire):
+        done = done + (time - before) * number
+        number = number + change
+        before = time
+        rows.append((time, done, number))
+    return rows
 
 
 def steps(fire):
     """Yields (time, burnt length, fronts) for each time at which the number of fronts changes."""
-    done = Ratio(0)
-    number = 0
-    before = None
-    for time, change in changes(fire):
-        if before is not None:
-            done = done + (time - before) * number
-        number = number + change
-        before = time
-        yield time, done, number
+    unit = fire.unit()
+    for time, done, number in whole_steps(fire):
+        yield Ratio(time, unit), Ratio(done, unit), number
 
 
 def time_for(fire, length):
     """The least time with this burnt length, or None if it is never reached."""
     if not is_positive(length):
         raise InvalidNumber(length)
-    before = None
-    for time, done, number in steps(fire):
-        if done >= length:
-            start, there, many = before
-            return start + (length - there).over(many)
-        before = (time, done, number)
+    top, bottom = parts(length)
+    goal = top * fire.unit()
+    rows = whole_steps(fire)
+    for (start, there, many), (_, done, _) in zip(rows, rows[1:]):
+        if done * bottom >= goal:
+            return Ratio(start * bottom * many + goal - there * bottom, bottom * many * fire.unit())
     return None

@@ -1,10 +1,12 @@
 """Nets that are put together, and very long chains of equal nets."""
 
+from math import lcm
+
 from fusenets.burning import runs
 from fusenets.errors import InvalidJoin, InvalidLights, InvalidNumber, LimitExceeded
 from fusenets.fires import Fire
 from fusenets.nets import MOST_FUSES, MOST_NODES, Net, is_index
-from fusenets.ratios import Ratio, as_ratio, is_integer, is_number
+from fusenets.ratios import Ratio, as_ratio, common_bottom, is_integer, is_number, whole
 from fusenets.spreading import lesser
 
 
@@ -68,21 +70,22 @@ def check_chain(net, left, right, number, first, last):
 
 
 def falling(start, step, number):
-    """The sum of start, start - step, .. over so many terms, where those below 0 count as 0."""
+    """The sum of start, start - step, .. over so many whole terms, where those below 0 count as 0."""
     if start <= 0:
-        return Ratio(0)
-    count = -(-start).over(step).floor()
-    if count > number:
-        count = number
-    return start * count - step * Ratio(count * (count - 1), 2)
+        return 0
+    count = min(int(number), -(-start // step))
+    return start * count - step * (count * (count - 1) // 2)
 
 
 def fallen(fire, time, step, number):
     """The burnt length, at a time, of so many equal nets that are lit like a fire, each a step later."""
-    result = Ratio(0)
+    scale = lcm(fire.unit(), common_bottom([time, step]))
+    factor = scale // fire.unit()
+    now, later = whole(time, scale), whole(step, scale)
+    result = 0
     for start, stop in runs(fire):
-        result = result + falling(time - start, step, number) - falling(time - stop, step, number)
-    return result
+        result = result + falling(now - start * factor, later, number) - falling(now - stop * factor, later, number)
+    return Ratio(result, scale)
 
 
 class Chain:

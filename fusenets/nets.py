@@ -1,5 +1,7 @@
 """Nets of fuses, their nodes and points."""
 
+from math import lcm
+
 from fusenets.errors import InvalidFuse, InvalidNet, InvalidNumber, InvalidPoint
 from fusenets.ratios import Ratio, as_ratio, common_bottom, is_integer, is_number, is_positive, total, whole
 from fusenets.spreading import node_times, time_at
@@ -51,7 +53,7 @@ def check_fuse(net, value):
 
 def scale_of(net, numbers):
     """What makes all lengths of a net and some numbers whole."""
-    return common_bottom([length for _, _, length in net.fuses] + numbers)
+    return lcm(net.own_scale(), common_bottom(numbers))
 
 
 def whole_point(point, scale):
@@ -63,7 +65,8 @@ def whole_point(point, scale):
 
 def whole_fuses(net, scale):
     """The fuses of a net with lengths that the scale, a multiple of their bottoms, makes whole."""
-    return [(one, other, whole(length, scale)) for one, other, length in net.fuses]
+    factor = scale // net.own_scale()
+    return [(one, other, size * factor) for one, other, size in net.own_fuses()]
 
 
 class Net:
@@ -76,6 +79,8 @@ class Net:
             raise InvalidNet("fuses")
         self._nodes = list(nodes)
         self._fuses = [(one, other, as_ratio(length)) for one, other, length in fuses]
+        self._own_scale = common_bottom([length for _, _, length in self._fuses])
+        self._own_fuses = [(one, other, whole(length, self._own_scale)) for one, other, length in self._fuses]
 
     @property
     def nodes(self):
@@ -106,6 +111,14 @@ class Net:
             raise InvalidNumber(other)
         return Net(self._nodes, [(first, second, length * other) for first, second, length in self._fuses])
 
+    def own_scale(self):
+        """The least number that makes all lengths whole."""
+        return self._own_scale
+
+    def own_fuses(self):
+        """The list of the fuses with lengths that this number makes whole."""
+        return list(self._own_fuses)
+
     def is_point(self, value):
         """Whether any value is a point."""
         return value in self or self._is_place(value)
@@ -122,9 +135,13 @@ class Net:
         """The same point as it is returned: the node if there is one."""
         if not self.is_point(value):
             raise InvalidPoint(value)
-        if isinstance(value, str):
-            return value
-        fuse, distance = value
+        return self.returned(value)
+
+    def returned(self, point):
+        """The same point as it is returned, for a valid one."""
+        if isinstance(point, str):
+            return point
+        fuse, distance = point
         one, other, length = self._fuses[fuse]
         if distance == 0:
             return one
@@ -134,14 +151,18 @@ class Net:
 
     def distance(self, one, other):
         """The length of a shortest way between two points, or None."""
-        sources = [(self.point(one), Ratio(0))]
-        goal = self.point(other)
-        times = node_times(self._fuses, sources)
-        return time_at(self._fuses, sources, times, goal)
+        points = [self.point(one), self.point(other)]
+        scale = scale_of(self, [point[1] for point in points if not isinstance(point, str)])
+        fuses = whole_fuses(self, scale)
+        start, goal = [whole_point(point, scale) for point in points]
+        length = time_at(fuses, [(start, 0)], node_times(fuses, [(start, 0)]), goal)
+        if length is None:
+            return None
+        return Ratio(length, scale)
 
     def is_connected(self):
         """Whether there is a way between any two nodes."""
-        return len(node_times(self._fuses, [(self._nodes[0], Ratio(0))])) == len(self._nodes)
+        return len(node_times(self._own_fuses, [(self._nodes[0], 0)])) == len(self._nodes)
 
     def is_tree(self):
         """Whether the net is connected, with one fuse less than nodes."""

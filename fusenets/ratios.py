@@ -138,8 +138,9 @@ class Ratio:
 
 def as_ratio(number):
     """The Ratio that is equal to a number."""
-    top, bottom = parts(number)
-    return Ratio(top, bottom)
+    if isinstance(number, Ratio):
+        return number
+    return Ratio(number)
 
 
 def total(numbers):

@@ -1,8 +1,8 @@
 """How fire spreads along fuses from its sources.
 
 Fuses are tuples (one, other, length), points are nodes or places (fuse, distance)
-strictly inside a fuse, and sources are tuples (point, time). All numbers may be Ratios,
-or integers where lengths and times have been made whole.
+strictly inside a fuse, and sources are tuples (point, time). All numbers are alike:
+integers where lengths and times have been made whole, otherwise any numbers.
 """
 
 
@@ -33,10 +33,10 @@ def neighbours(fuses, node):
 
 def soonest(times):
     """The first key of a dict with the least time."""
-    best = None
-    for node in times:
-        if best is None or times[node] < times[best]:
-            best = node
+    best = least = None
+    for node, time in times.items():
+        if least is None or time < least:
+            best, least = node, time
     return best
 
 

@@ -1,6 +1,9 @@
-"""Stretches: the parts of fuses between places from which fire runs along a fuse."""
+"""Stretches: the parts of fuses between places from which fire runs along a fuse.
 
-from fusenets.ratios import Ratio, in_order
+All numbers are whole, and even, so that the times halfway between them are whole, too.
+"""
+
+from fusenets.ratios import in_order
 
 
 class Stretch:
@@ -15,7 +18,7 @@ class Stretch:
 
     def last_time(self):
         """The time at which the last point of the stretch burns."""
-        return (self.low_time + self.high_time + self.high - self.low).over(2)
+        return (self.low_time + self.high_time + self.high - self.low) // 2
 
     def last_place(self):
         """The last point to burn as a place, or None if it is an end of the stretch."""
@@ -40,22 +43,34 @@ def unbeaten(marks):
     return kept
 
 
-def marks_on(fuses, sources, times, fuse):
+def sources_inside(sources):
+    """A dict from the fuses with sources strictly inside them to lists of (distance, time)."""
+    inside = {}
+    for point, time in sources:
+        if not isinstance(point, str):
+            fuse, distance = point
+            inside[fuse] = inside.get(fuse, []) + [(distance, time)]
+    return inside
+
+
+def marks_on(start, inside, stop):
     """The ends of a fuse and the sources that give their places the time, as (distance, time)."""
-    one, other, length = fuses[fuse]
-    inside = [(point[1], time) for point, time in sources
-              if not isinstance(point, str) and point[0] == fuse]
-    marks = [(Ratio(0), times[one])] + in_order(inside) + [(length, times[other])]
+    marks = [start] + in_order(inside) + [stop]
     return unbeaten(unbeaten(marks)[::-1])[::-1]
 
 
 def stretches_of(fuses, sources, times):
     """The stretches of all fuses that burn, in the order of their places."""
+    inside = sources_inside(sources)
     rows = []
-    for fuse, (one, _, _) in enumerate(fuses):
-        if one in times:
-            marks = marks_on(fuses, sources, times, fuse)
-            ends = list(zip(marks, marks[1:]))
-            rows.extend([Stretch(fuse, low, start, high, end)
-                         for (low, start), (high, end) in ends if low < high])
+    for fuse, (one, other, length) in enumerate(fuses):
+        if one not in times:
+            continue
+        if fuse not in inside:
+            rows.append(Stretch(fuse, 0, times[one], length, times[other]))
+            continue
+        marks = marks_on((0, times[one]), inside[fuse], (length, times[other]))
+        for (low, start), (high, end) in zip(marks, marks[1:]):
+            if low < high:
+                rows.append(Stretch(fuse, low, start, high, end))
     return rows

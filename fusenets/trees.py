@@ -5,6 +5,7 @@ Inside, lengths and times are whole numbers: all are multiplied by a common bott
 
 from fusenets.climbing import Lighting, climbs_of
 from fusenets.errors import InvalidNumber, LimitExceeded, NotATree
+from fusenets.lines import greatest
 from fusenets.nets import scale_of, whole_fuses, whole_point
 from fusenets.ratios import Ratio, is_integer, is_positive, whole
 from fusenets.spreading import neighbours, node_times, time_at
@@ -86,16 +87,24 @@ def are_points(net, value):
     return isinstance(value, list) and all([net.is_point(point) for point in value])
 
 
+def distances_in(points):
+    """The distances of all places among some points."""
+    return [point[1] for point in points if not isinstance(point, str)]
+
+
 def is_cover(net, time, value):
     """Whether any value is a list of points that cover the tree within the time."""
     check_time(net, time)
     if not are_points(net, value) or not value:
         return False
-    sources = [(net.point(point), Ratio(0)) for point in value]
-    times = node_times(net.fuses, sources)
-    stretches = stretches_of(net.fuses, sources, times)
+    points = [net.point(point) for point in value]
+    scale = 2 * scale_of(net, [time] + distances_in(points))
+    fuses = whole_fuses(net, scale)
+    sources = [(whole_point(point, scale), 0) for point in points]
+    times = node_times(fuses, sources)
+    stretches = stretches_of(fuses, sources, times)
     ends = [times[node] for node in net.nodes] + [stretch.last_time() for stretch in stretches]
-    return all([end <= time for end in ends])
+    return greatest(ends) <= whole(time, scale)
 
 
 def is_apart(net, time, value):
@@ -104,7 +113,7 @@ def is_apart(net, time, value):
     if not are_points(net, value):
         return False
     points = [net.point(point) for point in value]
-    scale = scale_of(net, [time] + [point[1] for point in points if not isinstance(point, str)])
+    scale = scale_of(net, [time] + distances_in(points))
     fuses = whole_fuses(net, scale)
     spots = [whole_point(point, scale) for point in points]
     for index, spot in enumerate(spots):
