@@ -26,18 +26,18 @@ class Whole:
 
     def __init__(self, fire):
         self.scale = scale_of(fire.net, fire.numbers())
-        self.fuses = whole_fuses(fire.net, self.scale)
-        self.lights = whole_lights(fire.lights, self.scale)
+        self.ways = whole_fuses(fire.net, self.scale)
+        self.lit_at = whole_lights(fire.lights, self.scale)
 
     def spread_without(self, fuse):
         """A dict from each node that burns without a fuse to its time."""
-        rest = self.fuses[:fuse] + self.fuses[fuse + 1:]
-        lights = [(point, time) for point, time in self.lights if isinstance(point, str) or point[0] != fuse]
-        return spread(rest, first_times(self.fuses, lights))
+        rest = self.ways[:fuse] + self.ways[fuse + 1:]
+        lights = [(point, time) for point, time in self.lit_at if isinstance(point, str) or point[0] != fuse]
+        return spread(rest, first_times(self.ways, lights))
 
     def spread_all(self):
         """A dict from each node that burns to its time."""
-        return spread(self.fuses, first_times(self.fuses, self.lights))
+        return spread(self.ways, first_times(self.ways, self.lit_at))
 
 
 def times_without(fire, fuse):

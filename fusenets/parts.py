@@ -9,11 +9,11 @@ class Part:
         self.low = low
         self.size = high - low
         self.ends = ends
-        self.starts = [None, None]
+        self.entered = [None, None]
 
     def out_time(self):
         """The time at which all of the part has burnt by the known entries, or None."""
-        first, second = self.starts
+        first, second = self.entered
         if first is None and second is None:
             return None
         if first is None:
@@ -26,7 +26,7 @@ class Part:
 
     def arrivals(self, distance):
         """The times at which fire from the ends comes to a distance behind the first end."""
-        first, second = self.starts
+        first, second = self.entered
         times = []
         if first is not None:
             times.append(first + distance)

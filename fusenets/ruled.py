@@ -38,7 +38,7 @@ class Ruled:
         leaving = now + self.rules.delays.get(spot, 0)
         for part, side in self.beside.get(spot, []):
             if not (isinstance(spot, str) and (part.fuse, side) in self.rules.valves):
-                part.starts[side] = leaving
+                part.entered[side] = leaving
                 self.come(part.ends[1 - side], leaving + part.size)
                 self.pull_triggers(part.fuse)
 

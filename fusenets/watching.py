@@ -29,17 +29,17 @@ class Sightings:
     def __init__(self, net, observations, distances):
         self.seen = [node for node in net.nodes if node in observations]
         self.scale = 4 * scale_of(net, [observations[node] for node in self.seen] + distances)
-        self.fuses = whole_fuses(net, self.scale)
+        self.ways = whole_fuses(net, self.scale)
         self.seen_at = [whole(observations[node], self.scale) for node in self.seen]
-        self.tables = [node_times(self.fuses, [(node, 0)]) for node in self.seen]
+        self.tables = [node_times(self.ways, [(node, 0)]) for node in self.seen]
 
     def starts(self, point):
         """For each observed node, when fire has to leave a point to come there in time, or None."""
-        ways = exits(self.fuses, point)
+        near = exits(self.ways, point)
         found = []
         for time, table in zip(self.seen_at, self.tables):
             length = None
-            for node, distance in ways:
+            for node, distance in near:
                 if node in table:
                     length = lesser(length, table[node] + distance)
             found.append(None if length is None else time - length)
@@ -54,7 +54,7 @@ class Sightings:
 
     def bends(self, fuse):
         """The ascending distances on a fuse between which all ways to observed nodes go straight."""
-        one, other, size = self.fuses[fuse]
+        one, other, size = self.ways[fuse]
         places = {0: True, size: True}
         for table in self.tables:
             places[(size + table[other] - table[one]) // 2] = True
@@ -97,7 +97,7 @@ def explaining(net, observations):
     check_observations(net, observations)
     sightings = Sightings(net, observations, [])
     found = []
-    for fuse, (one, _, _) in enumerate(sightings.fuses):
+    for fuse, (one, _, _) in enumerate(sightings.ways):
         if all([one in table for table in sightings.tables]):
             for low, high in explaining_parts(sightings, fuse):
                 found.append((fuse, Ratio(low, sightings.scale), Ratio(high, sightings.scale)))
@@ -161,7 +161,7 @@ def node_to_watch(net, observations):
     lights = sightings.lights_at_nodes()
     if len(lights) < 2:
         return None
-    fires = [node_times(sightings.fuses, [light]) for light in lights]
+    fires = [node_times(sightings.ways, [light]) for light in lights]
     best = None
     for node in net.nodes:
         number = largest_group(node, fires)

@@ -155,6 +155,8 @@ class Names(unittest.TestCase):
                     self.assertIn(told, ([], ["property"]))
                     (properties if told else methods).add(item.name)
         self.assertFalse(properties & methods)
+        stored = {node.attr for _, node in walked(ast.Attribute) if isinstance(node.ctx, ast.Store)}
+        self.assertFalse(stored & (properties | methods))
         generators = {node.name for _, node in walked(ast.FunctionDef) if any(isinstance(item, ast.Yield) for item in ast.walk(node))}
         self.assertFalse(generators & methods)
 
