@@ -6,7 +6,8 @@ from fusenets.lines import greatest, turns
 from fusenets.nets import check_fuse, scale_of, whole_fuses
 from fusenets.parts import parts_of
 from fusenets.ratios import Ratio, is_positive, whole
-from fusenets.spreading import first_times, lesser, spread
+from fusenets.spreading import first_times, lesser, node_times, spread
+from fusenets.stretches import stretches_of
 
 
 def is_lit(fire, fuse):
@@ -22,12 +23,16 @@ def check_unlit(fire, fuse):
 
 
 class Whole:
-    """A fire in whole numbers, of which single fuses can be left out."""
+    """A fire in whole and even numbers, of which single fuses can be changed."""
 
-    def __init__(self, fire):
-        self.scale = scale_of(fire.net, fire.numbers())
+    def __init__(self, fire, numbers):
+        self.scale = 2 * scale_of(fire.net, fire.numbers() + numbers)
         self.ways = whole_fuses(fire.net, self.scale)
         self.lit_at = whole_lights(fire.lights, self.scale)
+
+    def spread_all(self):
+        """A dict from each node that burns to its time."""
+        return node_times(self.ways, self.lit_at)
 
     def spread_without(self, fuse):
         """A dict from each node that burns without a fuse to its time."""
@@ -35,15 +40,19 @@ class Whole:
         lights = [(point, time) for point, time in self.lit_at if isinstance(point, str) or point[0] != fuse]
         return spread(rest, first_times(self.ways, lights))
 
-    def spread_all(self):
-        """A dict from each node that burns to its time."""
-        return spread(self.ways, first_times(self.ways, self.lit_at))
+    def end_with(self, fuse, size):
+        """The end, if all burns, when a fuse has another length."""
+        one, other, _ = self.ways[fuse]
+        ways = self.ways[:fuse] + [(one, other, size)] + self.ways[fuse + 1:]
+        times = node_times(ways, self.lit_at)
+        lasts = [stretch.last_time() for stretch in stretches_of(ways, self.lit_at, times)]
+        return greatest(list(times.values()) + lasts)
 
 
 def times_without(fire, fuse):
     """A dict from all nodes to their times if a fuse is left out."""
     check_fuse(fire.net, fuse)
-    whole_fire = Whole(fire)
+    whole_fire = Whole(fire, [])
     times = whole_fire.spread_without(fuse)
     result = {node: None for node in fire.net.nodes}
     for node in times:
@@ -53,7 +62,7 @@ def times_without(fire, fuse):
 
 def superfluous(fire):
     """The indexes of all fuses each of which can be left out without changing a node's time."""
-    whole_fire = Whole(fire)
+    whole_fire = Whole(fire, [])
     times = whole_fire.spread_all()
     return [fuse for fuse in range(len(fire.net)) if whole_fire.spread_without(fuse) == times]
 
@@ -154,13 +163,14 @@ def best_to_shorten(fire, amount):
         raise InvalidNumber(amount)
     if not all_burns(fire):
         return None
-    scale = scale_of(fire.net, fire.numbers() + [amount])
+    whole_fire = Whole(fire, [amount])
+    less = whole(amount, whole_fire.scale)
     best = None
-    for fuse, (_, _, length) in enumerate(fire.net.fuses):
-        if length > amount and not is_lit(fire, fuse):
-            height = greatest(Lengths(fire, fuse, scale).heights(whole(length - amount, scale)))
-            if best is None or height < best[1]:
-                best = (fuse, height)
+    for fuse, (_, _, size) in enumerate(whole_fire.ways):
+        if size > less and not is_lit(fire, fuse):
+            end = whole_fire.end_with(fuse, size - less)
+            if best is None or end < best[1]:
+                best = (fuse, end)
     if best is None:
         return None
-    return best[0], Ratio(best[1], 2 * scale)
+    return best[0], Ratio(best[1], whole_fire.scale)

@@ -48,7 +48,7 @@ class Sightings:
     def start(self, point):
         """When a single light at a point explains all, or None."""
         starts = self.starts(point)
-        if None in starts or len(set(starts)) > 1:
+        if len(set(starts)) > 1:
             return None
         return starts[0]
 
@@ -99,23 +99,29 @@ def explaining(net, observations):
     found = []
     for fuse, (one, _, _) in enumerate(sightings.ways):
         if all([one in table for table in sightings.tables]):
-            for low, high in explaining_parts(sightings, fuse):
-                found.append((fuse, Ratio(low, sightings.scale), Ratio(high, sightings.scale)))
+            part = explaining_part(sightings, fuse)
+            if part is not None:
+                found.append((fuse, Ratio(part[0], sightings.scale), Ratio(part[1], sightings.scale)))
     return found
 
 
-def explaining_parts(sightings, fuse):
-    """The longest parts (low, high) of a fuse where all times to leave are equal."""
+def explaining_part(sightings, fuse):
+    """The part (start, end) of a fuse where all times to leave are equal, or None.
+
+    Along a fuse the difference of two of these times never falls or never rises, so the
+    places where it is 0 hang together.
+    """
     bends = sightings.bends(fuse)
-    found = []
+    start = end = None
     for low, high in zip(bends, bends[1:]):
         part = equal_part(low, high, sightings.starts((fuse, low)), sightings.starts((fuse, high)))
         if part is not None:
-            start, end = part
-            if found and found[-1][1] == start:
-                start = found.pop()[0]
-            found.append((start, end))
-    return found
+            if start is None:
+                start = part[0]
+            end = part[1]
+    if start is None:
+        return None
+    return start, end
 
 
 def equal_part(low, high, lows, highs):

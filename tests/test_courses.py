@@ -127,6 +127,8 @@ class Known(unittest.TestCase):
         course = Course(lit(("a", 0), ("b", 3)), cuts=[(0, 1, 0)])
         self.assertEqual((course((0, 1)), course((0, Ratio(1, 2))), course((0, Ratio(3, 2))), course.burnt_out(0)),
                          (1, Ratio(1, 2), Ratio(11, 2), 6))
+        late = Course(lit(("a", 5), ("b", 0)), cuts=[(0, 3, -1)])
+        self.assertEqual((late((0, 3)), late((0, 2)), late.burnt_out(0)), (1, 7, 8))
         still = Course(lit(("b", 0)), cuts=[(0, 1, 0)])
         self.assertEqual((still((0, 1)), still("a"), still.burnt_out(0)), (3, None, None))
 
@@ -301,6 +303,28 @@ class Drawn(unittest.TestCase):
             rules = random_rules(random, nodes, fuses, lights) if fuses else {}
             with self.subTest(case=case, fuses=fuses, lights=lights, rules=rules):
                 self.check(nodes, fuses, lights, rules)
+
+    def test_fractions(self):
+        random = Random(5)
+        for _ in range(100):
+            nodes, fuses = random_net(random, 5, 6, 4)
+            if not fuses:
+                continue
+            lights = random_lights(random, nodes, fuses)
+            rules = random_rules(random, nodes, fuses, lights)
+            places = [point for point, _ in lights]
+            delays = {node: Ratio(random.randint(0, 9), 3) for node in rules.get("delays", {})}
+            cuts = [(fuse, at - Ratio(1, 5), time + Ratio(1, 7)) for fuse, at, time in rules.get("cuts", []) if (fuse, at) not in places]
+            triggers = [(fuse, point if isinstance(point, str) else (point[0], point[1] * Ratio(10, 11)), wait * Ratio(1, 13))
+                        for fuse, point, wait in rules.get("triggers", [])]
+            parts = {"delays": delays, "cuts": cuts, "triggers": triggers, "valves": rules.get("valves", [])}
+            number = 3 * 5 * 7 * 11 * 13
+            one = Course(Fire(Net(nodes, fuses), lights), **parts)
+            other = Course(Fire(Net(nodes, fuses) * number, [(moved(point, number), time * number) for point, time in lights]),
+                           **scaled(parts, number))
+            self.assertEqual([(time * number, kind, index) for time, kind, index in one.events()], other.events())
+            point = random_point(random, nodes, fuses)
+            self.assertEqual(None if one(point) is None else one(point) * number, other(moved(point, number)))
 
     def test_without_rules(self):
         random = Random(2)

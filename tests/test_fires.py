@@ -174,6 +174,15 @@ class Known(unittest.TestCase):
         late = Fire(Net(["b", "a", "c"], [("a", "c", 1), ("b", "c", 1)]), [("c", 0)])
         self.assertEqual(late.last(), ["b", "a"])
 
+    def test_places_at_other_fractions(self):
+        fire = Fire(row(12), [("a", 4), ((0, 4), 1), ((0, Ratio(15, 2)), 0), ("b", Ratio(1, 3))])
+        for distance, time, source in [(Ratio(1, 7), 4 + Ratio(1, 7), 0), (Ratio(1, 2), Ratio(9, 2), 0), (Ratio(4, 7), 5 - Ratio(4, 7), 1),
+                                       (4 + Ratio(1, 11), 1 + Ratio(1, 11), 1), (6 + Ratio(2, 7), Ratio(15, 2) - 6 - Ratio(2, 7), 2),
+                                       (12 - Ratio(1, 10 ** 9), Ratio(1, 3) + Ratio(1, 10 ** 9), 3)]:
+            told = Ratio(1) * time
+            self.assertTrue(is_ratio(fire((0, distance)), told.top, told.bottom))
+            self.assertEqual(fire.source((0, distance)), source)
+
     def test_thirty_digits(self):
         big = 10 ** 30
         fire = Fire(row(Ratio(big, 7)), [("a", -big), ("b", Ratio(1, big) - big)])

@@ -196,9 +196,10 @@ class Chains(unittest.TestCase):
 class Wrong(unittest.TestCase):
     def test_joints(self):
         for value in odd_values() + ["d", "aa", ("a",), ["a"]]:
-            with self.assertRaises(InvalidJoin) as caught:
-                Chain(three(), value, value, 0, first="x")
-            self.assertIs(caught.exception.value, value)
+            for right in (value, "b", "nowhere", None):
+                with self.assertRaises(InvalidJoin) as caught:
+                    Chain(three(), value, right, 0, first="x")
+                self.assertIs(caught.exception.value, value)
             with self.assertRaises(InvalidJoin) as caught:
                 Chain(three(), "a", value, 0, first="x")
             self.assertIs(caught.exception.value, value)
