@@ -6,7 +6,7 @@ each trigger and once more, since fire meets fire halfway between the times befo
 
 from fusenets.fires import whole_lights
 from fusenets.nets import check_fuse, scale_of, whole_fuses
-from fusenets.ratios import as_ratio, in_order
+from fusenets.ratios import Ratio, in_order, parts, whole
 from fusenets.ruled import Ruled
 from fusenets.rules import Rules, check_rules
 
@@ -31,14 +31,18 @@ class Course:
         """A time as it is returned."""
         if time is None:
             return None
-        return as_ratio(time).over(self._scale)
+        return Ratio(time, self._scale)
 
     def __call__(self, point):
         place = self._fire.net.point(point)
         if isinstance(place, str):
             return self._told(self._ruled.burnt_at.get(place))
         fuse, distance = place
-        return self._told(self._ruled.time_at(fuse, distance * self._scale))
+        factor = parts(distance)[1]
+        time = self._ruled.time_at(fuse, whole(distance, self._scale * factor), factor)
+        if time is None:
+            return None
+        return Ratio(time, self._scale * factor)
 
     def times(self):
         """A dict from all nodes to their times."""

@@ -27,11 +27,11 @@ def crossings(start, stop, starts, stops):
 def turns(hill):
     """The tuples (distance, greatest height) at the first and last bend and where the slope changes."""
     bends = hill.bends()
-    places = bends[:1]
-    for start, stop in zip(bends, bends[1:]):
-        places.extend(crossings(start, stop, hill.heights(start), hill.heights(stop)))
-        places.append(stop)
-    rows = [(place, greatest(hill.heights(place))) for place in places]
+    levels = [(place, hill.heights(place)) for place in bends]
+    rows = [(bends[0], greatest(levels[0][1]))]
+    for (start, starts), (stop, stops) in zip(levels, levels[1:]):
+        rows.extend([(place, greatest(hill.heights(place))) for place in crossings(start, stop, starts, stops)])
+        rows.append((stop, greatest(stops)))
     inner = [row for before, row, after in zip(rows, rows[1:], rows[2:]) if is_bent(before, row, after)]
     return rows[:1] + inner + rows[-1:]
 

@@ -1,5 +1,7 @@
 """Parts: what the places of some points cut the fuses of a net into. All numbers are whole."""
 
+from fusenets.spreading import lesser
+
 
 class Part:
     """A part of a fuse between two neighbouring spots, and when fire enters it there."""
@@ -24,15 +26,15 @@ class Part:
             return min(int(first), int(second)) + self.size
         return (first + second + self.size) // 2
 
-    def arrivals(self, distance):
-        """The times at which fire from the ends comes to a distance behind the first end."""
+    def arrival(self, distance, factor):
+        """The time at which fire comes to a distance behind the first end, both in a finer unit, or None."""
         first, second = self.entered
-        times = []
+        result = None
         if first is not None:
-            times.append(first + distance)
+            result = first * factor + distance
         if second is not None:
-            times.append(second + (self.size - distance))
-        return times
+            result = lesser(result, (second + self.size) * factor - distance)
+        return result
 
 
 def parts_of(fuses, points):

@@ -48,10 +48,11 @@ class Ruled:
         The time is too late while fire may still enter the fuse elsewhere; but then this
         is called again before that time, since an entry is known before it takes effect.
         """
-        out = self.burnt_out(fuse)
-        if out is not None:
-            for trigger, point, delay in self.rules.triggers:
-                if trigger == fuse:
+        watching = [(point, delay) for trigger, point, delay in self.rules.triggers if trigger == fuse]
+        if watching:
+            out = self.burnt_out(fuse)
+            if out is not None:
+                for point, delay in watching:
                     self.come(point, out + delay)
 
     def burnt_out(self, fuse):
@@ -65,15 +66,19 @@ class Ruled:
                 result = time
         return result
 
-    def time_at(self, fuse, distance):
-        """The time of a place strictly inside a fuse, at any number as its distance, or None."""
+    def time_at(self, fuse, distance, factor):
+        """The time of a place strictly inside a fuse, both in a unit finer by a factor, or None."""
         for part in self.on_fuses[fuse]:
-            behind = distance - part.low
+            behind = distance - part.low * factor
             if behind == 0:
-                return self.burnt_at.get(part.ends[0])
-            if 0 < behind < part.size:
-                result = None
-                for time in part.arrivals(behind):
-                    result = lesser(result, time)
-                return result
+                return finer(self.burnt_at.get(part.ends[0]), factor)
+            if 0 < behind < part.size * factor:
+                return part.arrival(behind, factor)
         return None
+
+
+def finer(time, factor):
+    """A time in a unit finer by a factor, or None."""
+    if time is None:
+        return None
+    return time * factor

@@ -111,10 +111,10 @@ def explaining_part(sightings, fuse):
     Along a fuse the difference of two of these times never falls or never rises, so the
     places where it is 0 hang together.
     """
-    bends = sightings.bends(fuse)
+    rows = [(place, sightings.starts((fuse, place))) for place in sightings.bends(fuse)]
     start = end = None
-    for low, high in zip(bends, bends[1:]):
-        part = equal_part(low, high, sightings.starts((fuse, low)), sightings.starts((fuse, high)))
+    for (low, lows), (high, highs) in zip(rows, rows[1:]):
+        part = equal_part(low, high, lows, highs)
         if part is not None:
             if start is None:
                 start = part[0]
