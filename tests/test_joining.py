@@ -5,7 +5,7 @@ from copy import deepcopy
 from random import Random
 
 from cutting import random_net, random_point
-from fusenets.burning import burnt
+from fusenets.burning import burnt, steps
 from fusenets.errors import InvalidJoin, InvalidNumber, InvalidPoint
 from fusenets.fires import Fire
 from fusenets.joining import Chain, joined
@@ -116,6 +116,8 @@ class Chains(unittest.TestCase):
         self.assertEqual(chain.end(), fire.end())
         times = [time for time in fire.times().values() if time is not None]
         times += [random.randint(-4, 40) * Ratio(1, 3) for _ in range(8)] + [times[0] + Ratio(1, 2), 10 ** 6, -10 ** 6]
+        changes = [time for time, _, _ in steps(fire)]
+        times += changes + [(one + other).over(2) for one, other in zip(changes, changes[1:])]
         for time in times:
             self.assertEqual(chain.burnt(time), burnt(fire, time))
         return chain

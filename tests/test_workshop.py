@@ -241,6 +241,20 @@ class Known(unittest.TestCase):
         shop.act("ann", ("join", "na", "nb", [("a", "a")]))
         self.assertEqual((len(shop.lights_of("na")), len(shop)), (20, 19))
 
+    def test_limits_of_joined_nets(self):
+        nodes = ["n" + letter for letter in "abcdefghijklmnopqrst"]
+        more = ["m" + letter for letter in "abcdefghijk"]
+        shop = filled(("net", "n", Net(nodes, [("na", "nb", 1)] * 20)), ("net", "m", Net(more, [])), ("net", "o", Net(["x"], [("x", "x", 1)] * 21)),
+                      ("net", "p", Net(["x"], [("x", "x", 1)] * 20)))
+        before = state(shop)
+        self.assertEqual(raised(shop.act, "ann", ("join", "n", "m", [])), ("LimitExceeded", {"limit": 30}))
+        self.assertEqual(raised(shop.act, "ann", ("join", "n", "o", [])), ("LimitExceeded", {"limit": 40}))
+        self.assertEqual(state(shop), before)
+        shop.act("ann", ("join", "n", "m", [("na", "ma")]))
+        self.assertEqual(len(shop.net_of("n").nodes), 30)
+        shop.act("ann", ("join", "n", "p", [("nb", "x")]))
+        self.assertEqual(len(shop.net_of("n")), 40)
+
     def test_preview(self):
         shop = lit_shop()
         before = state(shop)
