@@ -4,8 +4,8 @@ Inside, all numbers are whole: they are multiplied by their common bottom, and b
 each trigger and once more, since fire meets fire halfway between the times before.
 """
 
-from fusenets.fires import whole_lights
-from fusenets.nets import check_fuse, scale_of, whole_fuses
+from fusenets.fields import Field
+from fusenets.nets import check_fuse, scale_of
 from fusenets.ratios import Ratio, in_order, parts, whole
 from fusenets.ruled import Ruled
 from fusenets.rules import Rules, check_rules
@@ -16,16 +16,26 @@ class Course:
 
     def __init__(self, fire, *, delays=None, valves=(), cuts=(), triggers=()):
         check_rules(fire, delays, valves, cuts, triggers)
-        net = fire.net
-        rules = Rules(net, delays, valves, cuts, triggers)
-        scale = 2 * scale_of(net, fire.numbers() + rules.numbers())
+        rules = Rules(fire.net, delays, valves, cuts, triggers)
+        scale = 2 * scale_of(fire.net, fire.numbers() + rules.numbers())
         for _ in triggers:
             scale = scale * 2
-        rules.make_whole(scale)
-        self._fire = fire
+        self._lit_net = fire.net
         self._scale = scale
-        self._rules = rules
-        self._ruled = Ruled(whole_fuses(net, scale), whole_lights(fire.lights, scale), rules)
+        self._field = Field(fire, rules, scale)
+        self._ruled = Ruled(self._field)
+
+    def burnt_net(self):
+        """The net of the course."""
+        return self._lit_net
+
+    def inside(self):
+        """The field over which fire has spread, in whole numbers."""
+        return self._field
+
+    def spot_times(self):
+        """A dict from all spots that burn to their times, in whole numbers."""
+        return {spot: self._ruled.burnt_at[spot] for spot in self._ruled.burnt_at}
 
     def _told(self, time):
         """A time as it is returned."""
@@ -34,7 +44,7 @@ class Course:
         return Ratio(time, self._scale)
 
     def __call__(self, point):
-        place = self._fire.net.point(point)
+        place = self._lit_net.point(point)
         if isinstance(place, str):
             return self._told(self._ruled.burnt_at.get(place))
         fuse, distance = place
@@ -46,18 +56,18 @@ class Course:
 
     def times(self):
         """A dict from all nodes to their times."""
-        return {node: self._told(self._ruled.burnt_at.get(node)) for node in self._fire.net.nodes}
+        return {node: self._told(self._ruled.burnt_at.get(node)) for node in self._lit_net.nodes}
 
     def burnt_out(self, fuse):
         """The least time at which all points of a fuse have burnt, or None."""
-        check_fuse(self._fire.net, fuse)
-        return self._told(self._ruled.burnt_out(fuse))
+        check_fuse(self._lit_net, fuse)
+        return self._told(self._field.burnt_out(fuse))
 
     def end(self):
         """The least time at which all points of the net have burnt, or None."""
-        net = self._fire.net
+        net = self._lit_net
         result = None
-        outs = [self._ruled.burnt_out(fuse) for fuse in range(len(net))]
+        outs = [self._field.burnt_out(fuse) for fuse in range(len(net))]
         for time in [self._ruled.burnt_at.get(node) for node in net.nodes] + outs:
             if time is None:
                 return None
@@ -73,7 +83,7 @@ class Course:
     def _cut_rows(self):
         """The cuts at whose times their places have not burnt."""
         rows = []
-        for index, (place, time) in enumerate(self._rules.cuts):
+        for index, (place, time) in enumerate(self._field.rules.cuts):
             burnt = self._ruled.burnt_at.get(place)
             if burnt is None or burnt > time:
                 rows.append((time, "cut", index))
@@ -81,18 +91,13 @@ class Course:
 
     def _burning_rows(self):
         """The fuses that burn out, the lights and the nodes that burn."""
-        net = self._fire.net
-        lights = whole_lights(self._fire.lights, self._scale)
-        rows = [(self._ruled.burnt_out(fuse), "fuse", fuse) for fuse in range(len(net))]
-        rows.extend([(time, "light", index) for index, (_, time) in enumerate(lights)])
+        net = self._lit_net
+        rows = [(self._field.burnt_out(fuse), "fuse", fuse) for fuse in range(len(net))]
+        rows.extend([(time, "light", index) for index, (_, time) in enumerate(self._field.lit_at)])
         rows.extend([(self._ruled.burnt_at.get(node), "node", index) for index, node in enumerate(net.nodes)])
         return [row for row in rows if row[0] is not None]
 
     def _trigger_rows(self):
         """The triggers that set their lights."""
-        rows = []
-        for index, (fuse, _, delay) in enumerate(self._rules.triggers):
-            out = self._ruled.burnt_out(fuse)
-            if out is not None:
-                rows.append((out + delay, "trigger", index))
-        return rows
+        times = self._field.trigger_times()
+        return [(time, "trigger", index) for index, time in enumerate(times) if time is not None]

@@ -22,6 +22,12 @@ FUNCTIONS = {
                  "explaining": "(net, observations)", "suspects": "(net, observations)", "node_to_watch": "(net, observations)"},
     "texts": {"format_number": "(number)", "format_point": "(point)", "format_net": "(net)", "format_fire": "(fire)",
               "parse_number": "(text)", "parse_point": "(text)", "parse_net": "(text)", "parse_fire": "(text)"},
+    "accounts": {"account": "(course)", "check_account": "(fire, value, *, delays=None, valves=(), cuts=(), triggers=())",
+                 "reasons": "(course, point)", "chain": "(course, point)"},
+    "measuring": {"states": "(timers)", "measurable": "(timers)", "plan": "(timers, time)", "plan_time": "(timers, value)",
+                  "is_closed": "(timers, value)"},
+    "guarding": {"guard": "(fire, node, prices=None)", "flow": "(fire, node, prices=None)",
+                 "guard_price": "(fire, node, value, prices=None)", "flow_amount": "(fire, node, value, prices=None)"},
 }
 
 CLASSES = {
@@ -41,6 +47,10 @@ CLASSES = {
         "act": "(self, user, action)", "undo": "(self, user)", "redo": "(self, user)", "log": "(self)", "names": "(self)",
         "net_of": "(self, name)", "lights_of": "(self, name)", "fire_of": "(self, name)", "preview": "(self, actions, name)"}),
     ("console", "Console"): ("()", [], {"execute": "(self, command)"}),
+    ("live", "Live"): ("(net)", ["net", "lights"], {
+        "edit": "(self, action)", "edit_all": "(self, actions)", "revert": "(self, version)", "net_at": "(self, version)",
+        "lights_at": "(self, version)", "fire_at": "(self, version)", "changes": "(self, version, other)", "time": "(self, node)",
+        "watch": "(self, user, node)", "unwatch": "(self, user, node)", "notices": "(self, user)"}),
 }
 
 OPERATORS = {
@@ -48,6 +58,7 @@ OPERATORS = {
                           "__eq__", "__lt__", "__le__", "__gt__", "__ge__", "__bool__", "__repr__", "__str__"],
     ("nets", "Net"): ["__contains__", "__mul__", "__eq__", "__len__"],
     ("workshop", "Workshop"): ["__contains__", "__len__"],
+    ("live", "Live"): ["__len__"],
 }
 
 

@@ -4,12 +4,15 @@ import unittest
 from random import Random
 
 from cutting import random_lights, random_net
+from fusenets.accounts import account, chain, check_account, reasons
 from fusenets.console import Console
 from fusenets.courses import Course
 from fusenets.fires import Fire
+from fusenets.guarding import flow, guard
 from fusenets.joining import Chain, joined
 from fusenets.ladders import Ladder
 from fusenets.leaving import best_to_shorten, critical_length, end_by_length, superfluous, times_without
+from fusenets.live import Live
 from fusenets.nets import Net
 from fusenets.ratios import Ratio
 from fusenets.texts import format_fire, parse_fire
@@ -152,6 +155,38 @@ class Renamed(unittest.TestCase):
                 now = shop.net_of("n")
                 console.execute(f"net u n {','.join(now.nodes)} " + ",".join([f"{one}:{end}:{length}" for one, end, length in now.fuses]))
             self.assertEqual(consoles[0].execute("best n"), consoles[1].execute("best n"))
+
+
+    def test_accounts(self):
+        random = Random(15)
+        for _ in range(60):
+            nodes, fuses, lights = drawn(random)
+            rules = random_rules(random, nodes, fuses, lights)
+            fire = Fire(Net(nodes, fuses), lights)
+            other = Fire(renamed(fire.net), renamed(lights))
+            one, two = Course(fire, **rules), Course(other, **renamed(rules))
+            self.assertEqual([(time, renamed(point), reason) for time, point, reason in account(one)], account(two))
+            self.assertTrue(check_account(other, account(two), **renamed(rules)))
+            for _, point, _ in account(one):
+                self.assertEqual((renamed(chain(one, point)), reasons(one, point)), (chain(two, renamed(point)), reasons(two, renamed(point))))
+
+    def test_live_nets_and_guards(self):
+        random = Random(16)
+        for _ in range(40):
+            nodes, fuses, lights = drawn(random)
+            net = Net(nodes, fuses)
+            one, two = Live(net), Live(renamed(net))
+            one.watch("u", nodes[0])
+            two.watch("u", renamed(nodes[0]))
+            actions = [("light", point, time) for point, time in lights] + [("fuse", nodes[0], nodes[-1], 1), ("dark", 0)]
+            for action in actions:
+                self.assertEqual(renamed(one.edit(action)), two.edit(action[:1] + renamed(action[1:])))
+            self.assertEqual((renamed(one.lights), renamed(one.net)), (two.lights, two.net))
+            self.assertEqual(renamed(one.changes(0, len(one) - 1)), two.changes(0, len(two) - 1))
+            self.assertEqual(renamed(one.notices("u")), two.notices("u"))
+            for node in nodes:
+                fire, other = Fire(net, lights), Fire(renamed(net), renamed(lights))
+                self.assertEqual((guard(fire, node), flow(fire, node)), (guard(other, renamed(node)), flow(other, renamed(node))))
 
 
 class Turned(unittest.TestCase):
