@@ -45,7 +45,7 @@ class Examples(unittest.TestCase):
             with self.subTest(line=number):
                 self.assertEqual(told(source, names), expected)
                 shown += bool(expected)
-        self.assertEqual(shown, 34)
+        self.assertEqual(shown, 42)
 
 
 if __name__ == "__main__":

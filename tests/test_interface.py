@@ -28,6 +28,9 @@ FUNCTIONS = {
                   "is_closed": "(timers, value)"},
     "guarding": {"guard": "(fire, node, prices=None)", "flow": "(fire, node, prices=None)",
                  "guard_price": "(fire, node, value, prices=None)", "flow_amount": "(fire, node, value, prices=None)"},
+    "simplifying": {"table": "(net, keep)", "agree": "(net, other, keep)", "simplified": "(net, keep)",
+                    "after_steps": "(net, keep, value)", "derivation": "(net, keep)"},
+    "journals": {"check_number": "(number, text)", "recover": "(text)"},
 }
 
 CLASSES = {
@@ -51,6 +54,14 @@ CLASSES = {
         "edit": "(self, action)", "edit_all": "(self, actions)", "revert": "(self, version)", "net_at": "(self, version)",
         "lights_at": "(self, version)", "fire_at": "(self, version)", "changes": "(self, version, other)", "time": "(self, node)",
         "watch": "(self, user, node)", "unwatch": "(self, user, node)", "notices": "(self, user)"}),
+    ("journals", "Journal"): ("()", [], {"execute": "(self, command)", "text": "(self)"}),
+    ("journals", "Replica"): ("(user)", [], {
+        "execute": "(self, command)", "merge": "(self, entries)", "entries": "(self)", "skipped": "(self)"}),
+    ("machine", "Machine"): ("(net, marks, lights, rules)", [], {
+        "log": "(self)", "times": "(self)", "variables": "(self)", "is_rule": "(self, value)", "is_log": "(self, value)"}),
+    ("runs", "Run"): ("(machine)", [], {
+        "step": "(self)", "now": "(self)", "log": "(self)", "is_over": "(self)", "save": "(self)", "causes": "(self, index)",
+        "effects": "(self, index)"}),
 }
 
 OPERATORS = {
@@ -59,6 +70,9 @@ OPERATORS = {
     ("nets", "Net"): ["__contains__", "__mul__", "__eq__", "__len__"],
     ("workshop", "Workshop"): ["__contains__", "__len__"],
     ("live", "Live"): ["__len__"],
+    ("journals", "Journal"): ["__len__"],
+    ("journals", "Replica"): ["__len__"],
+    ("machine", "Machine"): ["__eq__"],
 }
 
 
@@ -87,6 +101,11 @@ class Interface(unittest.TestCase):
                     self.assertIsInstance(vars(made)[told], property)
                 for told, wanted in methods.items():
                     self.assertEqual(str(inspect.signature(vars(made)[told])), wanted)
+
+    def test_class_method(self):
+        made = import_module("fusenets.runs").Run
+        self.assertIsInstance(vars(made)["resumed"], classmethod)
+        self.assertEqual(str(inspect.signature(made.resumed)), "(machine, text)")
 
     def test_operators(self):
         for (module, name), methods in OPERATORS.items():

@@ -147,14 +147,16 @@ class Names(unittest.TestCase):
                 self.assertFalse(node.keywords and node.func.attr in METHODS, name)
 
     def test_properties(self):
-        properties, methods = set(), set()
+        properties, methods, made = set(), set(), set()
         for _, node in walked(ast.ClassDef):
             for item in node.body:
                 if isinstance(item, ast.FunctionDef):
                     told = [decorator.id for decorator in item.decorator_list]
-                    self.assertIn(told, ([], ["property"]))
-                    (properties if told else methods).add(item.name)
+                    self.assertIn(told, ([], ["property"], ["classmethod"]))
+                    (methods if not told else properties if told == ["property"] else made).add(item.name)
         self.assertFalse(properties & methods)
+        self.assertFalse(made & (properties | methods | METHODS))
+        methods |= made
         stored = {node.attr for _, node in walked(ast.Attribute) if isinstance(node.ctx, ast.Store)}
         self.assertFalse(stored & (properties | methods))
         generators = {node.name for _, node in walked(ast.FunctionDef) if any(isinstance(item, ast.Yield) for item in ast.walk(node))}

@@ -10,14 +10,19 @@ from fusenets.courses import Course
 from fusenets.fires import Fire
 from fusenets.guarding import flow, guard
 from fusenets.joining import Chain, joined
+from fusenets.journals import Journal, Replica, recover
 from fusenets.ladders import Ladder
 from fusenets.leaving import best_to_shorten, critical_length, end_by_length, superfluous, times_without
 from fusenets.live import Live
+from fusenets.machine import Machine
 from fusenets.nets import Net
 from fusenets.ratios import Ratio
+from fusenets.runs import Run
+from fusenets.simplifying import after_steps, derivation, simplified, table
 from fusenets.texts import format_fire, parse_fire
 from fusenets.watching import contradiction, explaining, light_time, node_to_watch, suspects
 from fusenets.workshop import Workshop
+from stepping import random_machine
 from test_courses import random_rules
 
 NAMES = {node: name for node, name in zip("abcdefgh", ["k", "zz", "m", "aa", "q", "b", "xyz", "a"])}
@@ -187,6 +192,49 @@ class Renamed(unittest.TestCase):
             for node in nodes:
                 fire, other = Fire(net, lights), Fire(renamed(net), renamed(lights))
                 self.assertEqual((guard(fire, node), flow(fire, node)), (guard(other, renamed(node)), flow(other, renamed(node))))
+
+
+    def test_simpler_nets(self):
+        random = Random(17)
+        for _ in range(60):
+            nodes, fuses, _ = drawn(random)
+            keep = random.sample(nodes, random.randint(1, len(nodes)))[:6]
+            one, two = Net(nodes, fuses), renamed(Net(nodes, fuses))
+            self.assertEqual([(renamed(pair), length) for pair, length in table(one, keep).items()], list(table(two, renamed(keep)).items()))
+            self.assertEqual(renamed(simplified(one, keep)), simplified(two, renamed(keep)))
+            steps = [(step[0],) + renamed(step[1:]) for step in derivation(one, keep)]
+            self.assertEqual(steps, derivation(two, renamed(keep)))
+            self.assertEqual(renamed(after_steps(one, keep, derivation(one, keep))), after_steps(two, renamed(keep), steps))
+
+    def test_journals_and_replicas(self):
+        commands = ["net u n a,b,c a:b:4,b:c:2", "lights u n a:0,1@1:2", "scale u n 1/2", "net u o g,h g:h:1", "join u n o c:g", "lights u n h:0", "undo u", "redo u"]
+        # The names of nets and users are letters that are no nodes here.
+        words = [[",".join([":".join([NAMES.get(item, item) for item in part.split(":")]) for part in word.split(",")]) for word in command.split(" ")] for command in commands]
+        others = [" ".join(row) for row in words]
+        one, two = Journal(), Journal()
+        for command, other in zip(commands, others):
+            self.assertEqual((one.execute(command), two.execute(other)), ("ok", "ok"))
+        self.assertEqual([line.split(" #")[0].split(" ", 1)[1] for line in two.text().split("\n")], others)
+        self.assertEqual((one.execute("end n"), one.execute("time n c")), (two.execute("end n"), recover(two.text()).execute(f"time n {NAMES['c']}")))
+        replicas = [Replica("v"), Replica("v")]
+        for replica, told in zip(replicas, (commands, others)):
+            replica.merge([(stamp, "u", command) for stamp, command in enumerate(told, 1)])
+            self.assertEqual(replica.skipped(), [])
+        self.assertEqual(replicas[0].execute("end n"), replicas[1].execute("end n"))
+        self.assertEqual(replicas[1].execute("last n"), " ".join([NAMES.get(word, word) for word in replicas[0].execute("last n").split(" ")]))
+
+    def test_machines_and_runs(self):
+        for seed in range(150):
+            nodes, fuses, marks, lights, rules = random_machine(Random(seed))
+            one = Machine(Net(nodes, fuses), marks, lights, rules)
+            moved = [((kind, renamed(what) if kind == "burn" else what), condition, [action[:1] + (renamed(action[1]),) + action[2:] if action[0] == "light" else action for action in actions])
+                     for (kind, what), condition, actions in rules]
+            two = Machine(renamed(Net(nodes, fuses)), marks, renamed(lights), moved)
+            log = [(time, kind, renamed(what) if kind == "burn" else what, cause) for time, kind, what, cause in one.log()]
+            self.assertEqual((log, renamed(list(one.times().items())), one.variables()), (two.log(), list(two.times().items()), two.variables()))
+            run = Run(two)
+            run.step()
+            self.assertEqual(Run.resumed(two, run.save()).log(), log[:len(run.log())])
 
 
 class Turned(unittest.TestCase):

@@ -13,15 +13,20 @@ from fusenets.courses import Course
 from fusenets.fires import Fire
 from fusenets.guarding import flow, guard
 from fusenets.joining import Chain, joined
+from fusenets.journals import Journal, Replica, recover
 from fusenets.ladders import Ladder
 from fusenets.live import Live
+from fusenets.machine import Machine
 from fusenets.measuring import is_closed, measurable, plan, plan_time, states
 from fusenets.nets import Net
 from fusenets.ratios import Ratio
-from fusenets.texts import format_fire, parse_fire
+from fusenets.runs import Run
+from fusenets.simplifying import after_steps, agree, derivation, simplified, table
+from fusenets.texts import format_fire, parse_fire, parse_number
 from fusenets.trees import apart, cover, fewest, is_apart, is_cover, least_time
 from fusenets.watching import contradiction, explaining, light_time, node_to_watch, suspects
 from fusenets.workshop import Workshop
+from stepping import random_machine
 from test_courses import random_rules
 
 
@@ -203,6 +208,98 @@ class Stages(unittest.TestCase):
             for node in case.nodes:
                 self.assertEqual(guard(case.fire, node, prices), guard(case.big_fire, node, prices))
                 self.assertEqual(flow(case.fire, node, prices), flow(case.big_fire, node, prices))
+
+    def test_simpler_nets(self):
+        for random, case in cases(13):
+            keep = random.sample(case.nodes, random.randint(1, len(case.nodes)))[:6]
+            self.assertEqual(case.moved(table(case.net, keep)), table(case.big_net, keep))
+            self.assertEqual(simplified(case.net, keep) * case.number, simplified(case.big_net, keep))
+            steps = derivation(case.net, keep)
+            self.assertEqual(steps, derivation(case.big_net, keep))
+            for number in range(len(steps) + 1):
+                one, two = after_steps(case.net, keep, steps[:number]), after_steps(case.big_net, keep, steps[:number])
+                self.assertEqual(one * case.number, two)
+                self.assertTrue(agree(one, case.net, keep))
+
+    def test_journals_and_replicas(self):
+        number = Ratio(7, 3)
+        for make in (Journal, lambda: Replica("u")):
+            one, two = make(), make()
+            for doer, by in ((one, Ratio(1)), (two, number)):
+                for command in [f"net u n a,b,c a:b:{by * 4},b:c:{by * 2}", f"lights u n a:{by},1@{by}:{by * 2}", "redo u", "scale u n 1/2", "undo u"]:
+                    try:
+                        doer.execute(command)
+                    except LookupError:
+                        self.assertEqual(command, "redo u")
+            for question in ("end n", "time n b", "time n c"):
+                self.assertEqual(parse_number(one.execute(question)) * number, parse_number(two.execute(question)))
+        self.assertEqual(recover(Journal().text()).execute("names"), "-")
+
+
+class Machines(unittest.TestCase):
+    """Machines whose terms are only times and the present time."""
+
+    def setUp(self):
+        self.number = Ratio(1)
+
+    def point(self, point):
+        """A point with its distance multiplied."""
+        return point if isinstance(point, str) else (point[0], point[1] * self.number)
+
+    def condition(self, random, depth=2):
+        """A condition, and the one with its times multiplied."""
+        choice = random.random()
+        if depth == 0 or choice < 0.5:
+            return None, None
+        if choice < 0.8:
+            sign, time = random.choice(["<", "<=", "=="]), random.randint(-3, 9)
+            return (sign, ("now",), time), (sign, ("now",), time * self.number)
+        one, two = self.condition(random, depth - 1)
+        return (("not", one), ("not", two)) if choice < 0.9 else (("and", one, None), ("and", two, None))
+
+    def rule(self, random, rule):
+        """A rule whose terms are times, and the one with its times multiplied."""
+        (kind, what), _, actions = rule
+        made, moved = [], []
+        for action in actions:
+            time = random.choice([0, 1, 2, 5, -1]) if random.random() < 0.8 else ("now",)
+            more = time if time == ("now",) else time * self.number
+            point = self.point(action[1]) if action[0] in ("light", "cut") else action[1]
+            is_term = action[0] in ("light", "send", "let")
+            made.append((action[0], action[1], time) if is_term else action)
+            moved.append((action[0], point, more) if is_term else (action[0], point) + action[2:])
+        condition, other = self.condition(random)
+        event = (kind, self.point(what) if kind == "burn" else what * self.number if kind == "at" else what)
+        return ((kind, what), condition, made), (event, other, moved)
+
+    def moved(self, log):
+        """A log with its times, and the distances of its points, multiplied."""
+        rows = []
+        for time, kind, what, cause in log:
+            if kind == "at" or kind == "burn":
+                what = what * self.number if kind == "at" else self.point(what)
+            rows.append((time * self.number, kind, what, cause))
+        return rows
+
+    def test_machines_and_runs(self):
+        random, calls = Random(14), 0
+        for _ in range(150):
+            self.number = random.choice([2, Ratio(1, 3), Ratio(random.randint(1, 10 ** 20), random.randint(1, 10 ** 20))])
+            nodes, fuses, marks, lights, rules = random_machine(random)
+            pairs = [self.rule(random, rule) for rule in rules]
+            net = Net(nodes, fuses)
+            one = Machine(net, marks, lights, [first for first, _ in pairs])
+            two = Machine(net * self.number, [self.point(mark) for mark in marks], [(self.point(point), time * self.number) for point, time in lights], [other for _, other in pairs])
+            self.assertEqual(self.moved(one.log()), two.log())
+            self.assertTrue(two.is_log(self.moved(one.log())))
+            self.assertEqual({name: time if time is None else time * self.number for name, time in one.times().items()}, two.times())
+            self.assertEqual({name: value * self.number for name, value in one.variables().items()}, two.variables())
+            first, second = Run(one), Run(two)
+            for _ in range(5):
+                self.assertEqual(self.moved(first.step()), second.step())
+                self.assertEqual(first.save(), second.save())
+            calls += len([entry for entry in one.log() if entry[1] == "call"])
+        self.assertGreater(calls, 500)
 
 
 if __name__ == "__main__":
