@@ -23,14 +23,14 @@ class Flow:
         """A dict from all keys that arcs with room lead to from a start to the arcs that come to them."""
         found = {start: None}
         waiting = [start]
-        place = 0
-        while place < len(waiting):
-            for arc in self.leaving[waiting[place]]:
+        while waiting:
+            here = waiting[0]
+            waiting = waiting[1:]
+            for arc in self.leaving[here]:
                 head = self.heads[arc]
                 if room[arc] > 0 and head not in found:
                     found[head] = arc
                     waiting.append(head)
-            place += 1
         return found
 
     def path(self, start, goal, room):
