@@ -75,9 +75,8 @@ class Blaze:
         return max([int(cause) for cause in found])
 
     def cut(self, spot):
-        """Cuts a mark; this has no effect if it has burnt."""
-        if spot not in self.burnt_at:
-            self.stopped[spot] = True
+        """Cuts a mark; if it has burnt, fire has left it already, so this has no effect."""
+        self.stopped[spot] = True
 
     def shut_gate(self, gate):
         """Closes a gate."""

@@ -3,9 +3,9 @@
 Lights are a list of tuples with points as they are returned.
 """
 
-from fusenets.errors import InvalidAction, InvalidFuse, InvalidLights, InvalidNet, InvalidNumber
+from fusenets.errors import InvalidAction, InvalidFuse, InvalidLights, InvalidNumber
 from fusenets.fires import MOST_LIGHTS, as_lights, is_light
-from fusenets.nets import MOST_FUSES, MOST_NODES, Net, check_fuse, is_fuse, is_index, is_word
+from fusenets.nets import Net, check_fuse, is_index
 from fusenets.ratios import is_positive
 
 SIZES = {"node": 2, "fuse": 4, "cut": 2, "length": 3, "light": 3, "dark": 2}
@@ -37,16 +37,12 @@ def after_edit(net, lights, edit):
 
 
 def with_node(net, name):
-    """The net with another node at the end."""
-    if not is_word(name) or name in net or len(net.nodes) >= MOST_NODES:
-        raise InvalidNet("nodes")
+    """The net with another node at the end; a net that cannot be made raises the error of the edit."""
     return Net(net.nodes + [name], net.fuses)
 
 
 def with_fuse(net, fuse):
-    """The net with another fuse at the end."""
-    if not is_fuse(net.nodes, fuse) or len(net) >= MOST_FUSES:
-        raise InvalidNet("fuses")
+    """The net with another fuse at the end; a net that cannot be made raises the error of the edit."""
     return Net(net.nodes, net.fuses + [fuse])
 
 

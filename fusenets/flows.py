@@ -14,7 +14,6 @@ class Flow:
         """Adds an arc with a capacity, and one back, both with the same label."""
         for tail, head, capacity in [(one, other, ahead), (other, one, back)]:
             self.leaving.setdefault(tail, []).append(len(self.heads))
-            self.leaving.setdefault(head, [])
             self.heads.append(head)
             self.room.append(capacity)
             self.labels.append(label)

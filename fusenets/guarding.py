@@ -76,8 +76,6 @@ class GreatestFlow:
                 self.carrying.join(fuse, other, endless, 0, (None, None))
             else:
                 self.carrying.join(one, other, amounts[fuse], amounts[fuse], (None, fuse))
-        # A goal without fuses is reached by nothing.
-        self.carrying.join(START, node, 0, 0, (None, None))
         self.before = list(self.carrying.room)
         self.carrying.fill(START, node)
 

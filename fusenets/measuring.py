@@ -172,9 +172,6 @@ def plan_time(timers, value):
     check_timers(timers)
     if not isinstance(value, list) or len(value) == 0:
         return None
-    # No plan has more steps than timers: behind each step one burns out.
-    if len(value) > len(timers):
-        return None
     scale = fine_scale(timers)
     state = start_of(timers, scale)
     for step in value:

@@ -62,6 +62,6 @@ class Run:
         self._entry(index)
         found = {index: True}
         for place, entry in enumerate(self._engine.rows):
-            if entry[3] is not None and entry[3] in found:
+            if entry[3] in found:
                 found[place] = True
         return [place for place in found if place != index]

@@ -140,7 +140,7 @@ def ways_to_spoil(random, told, rules):
         found.append(rest)
         found.append(before + [told[index]] + told[index:])
         found.append(told + [told[index]])
-        found.extend(before + [(time + more, point, reason)] + behind for more in (1, -1, Fraction(1, 7)))
+        found.extend(before + [(time + more, point, reason)] + behind for more in (1, -1, Fraction(1, 7), Fraction(1, 2), Fraction(-1, 2)))
         found.append(before + [(time, random.choice(rules.spots), reason)] + behind)
         found.append(before + [(time, (0, Fraction(1, 13)), reason)] + behind)
         found.append(before + [(time, point, random.choice(rules.candidates()))] + behind)
@@ -198,6 +198,13 @@ class Known(unittest.TestCase):
         for point in [(0, 0), (1, 0)]:
             self.assertFalse(check_account(fire, told[:1] + [(1, (0, 0), told[1][2])] + told[2:]), point)
         self.assertFalse(check_account(fire, told[:2] + [(3, (0, 4), ("fuse", 0, 0))] + told[3:]))
+
+    def test_a_place_near_a_spot(self):
+        fire = Fire(three(), [((0, Ratio(3, 10)), 0)])
+        told = account(Course(fire))
+        self.assertTrue(check_account(fire, told))
+        for distance in [Ratio(1, 3), Ratio(1, 7), Ratio(301, 1000)]:
+            self.assertFalse(check_account(fire, [(0, (0, distance), ("light", 0))] + told[1:]))
 
     def test_all_reasons_of_one_spot(self):
         net = Net(["a", "b"], [("a", "b", 2), ("b", "a", 2), ("b", "b", 4), ("a", "b", 1), ("b", "b", 2)])

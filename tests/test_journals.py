@@ -202,6 +202,11 @@ class Recovered(unittest.TestCase):
                 self.assertEqual(len(found), wanted, (bad, place))
         self.assertEqual(len(recover("\n".join(lines_of(good + ["undo u", "redo u", "drop v n"])))), 5)
 
+    def test_nothing_is_recovered_behind_a_line_that_is_none(self):
+        lines = lines_of(["net u n a,b a:b:3", "lights u n a:0"])
+        bad = lines_of(["net u n a,b a:b:3", "names"])[1]
+        self.assertEqual((len(recover("\n".join(lines))), len(recover("\n".join([lines[0], bad, lines[1]])))), (2, 1))
+
     def test_numbers_of_another_form(self):
         lines = lines_of(["net u n p -", "net u m p -"])
         head, number = lines[0].rsplit(" #", 1)
@@ -340,7 +345,7 @@ class Replicas(unittest.TestCase):
                 self.assertIs(told[1]["value"], value)
         wrong = odd_values() + [list(good[0]), good[0][:2], good[0] + (0,), (0, "bob", "undo bob"), (-1, "bob", "undo bob"), (True, "bob", "undo bob"), ("1", "bob", "undo bob"),
                                 (Ratio(1), "bob", "undo bob"), (1, "Bob", "undo Bob"), (1, "bob", "undo ann"), (1, "bob", "names"), (1, "bob", "show bob"), (1, "bob", "undo  bob"),
-                                (1, "bob", "undo bob "), (1, "bob", "undo bob\n"), (1, "bob", None), (1, "bob", b"undo bob"), (1, None, "undo bob"), (1, "", "undo "), (1, "bob", ""),
+                                (1, "bob", "undo bob "), (1, "bob", "undo bob\n"), (1, "bob", None), (1, "bob", b"undo bob"), (1, None, "undo bob"), (1, Strange(), "undo bob"), (1, "", "undo "), (1, "bob", ""),
                                 (1, "bob", Strange()), (Strange(), "bob", "undo bob"), (1, "bob", "net bob n p"), (1, "bobbobbob", "undo bobbobbob")]
         for value in wrong:
             for entries in [[value], good + [value], [value] + good, good + [value, None], good[:1] + [value] + good[1:]]:

@@ -497,7 +497,8 @@ class Wrong(unittest.TestCase):
 
     def test_events(self):
         for value in odd_values() + [("at",), ("at", 0, 0), ["at", 0], ("At", 0), ("burn",), ("burn", "d"), ("burn", (0, 1)), ("burn", (0, 5)), ("out", 2), ("out", -1),
-                                     ("out", True), ("out", Ratio(0)), ("out", "a"), ("signal", ""), ("signal", "S"), ("signal", "abcdefghi"), ("signal", 0), ("now",), ("light", 0)]:
+                                     ("out", True), ("out", Ratio(0)), ("out", "a"), ("signal", ""), ("signal", "S"), ("signal", "abcdefghi"), ("signal", 0), ("now",), ("light", 0), ("light", "a"),
+                                     ("Signal", "a"), ("", "a"), ("send", "a")]:
             self.refused((value, None, []))
         for value in odd_values()[:-1]:
             for kind in ("burn", "out", "at", "signal"):

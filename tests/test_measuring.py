@@ -177,6 +177,12 @@ class Closed(unittest.TestCase):
         self.assertFalse(is_closed([4, 6], told + [(Ratio(1, 3), ((Ratio(1, 7), 2), (0, 0)))]))
         self.assertTrue(is_closed([4, 6], told + [(Ratio(1, 3), ((Ratio(1, 7), 2), (0, 0))), (Ratio(17, 42), ((0, 0), (0, 0)))]))
 
+    def test_forms_of_states_with_all_that_could_follow(self):
+        more = [(Ratio(number, 2), ((0, 0),)) for number in range(-40, 40)]
+        self.assertTrue(is_closed([4], states([4]) + more + [(9, ((2, 1),))]))
+        for rest, lit in [(0, 1), (0, 2), (-1, 0), (-1, 1), (-2, 2), (Ratio(0), 1), (2, 3), (2, 4), (2, -1)]:
+            self.assertFalse(is_closed([4], states([4]) + more + [(9, ((rest, lit),))]))
+
     def test_integers_and_ratios(self):
         self.assertTrue(is_closed([4], [(Ratio(0), ((Ratio(4), 0),)), (4, ((Ratio(0), 0),)), (Ratio(2), ((0, 0),))]))
 
