@@ -10,7 +10,7 @@ class Flow:
         self.labels = []
         self.leaving = {}
 
-    def join(self, one, other, ahead, back, label):
+    def connect(self, one, other, ahead, back, label):
         """Adds an arc with a capacity, and one back, both with the same label."""
         for tail, head, capacity in [(one, other, ahead), (other, one, back)]:
             self.leaving.setdefault(tail, []).append(len(self.heads))

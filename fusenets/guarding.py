@@ -68,14 +68,14 @@ class GreatestFlow:
         endless = sum(amounts) + 1
         lit_nodes = lights_at_nodes(fire)
         for spot in lit_nodes:
-            self.carrying.join(START, spot, endless, 0, (lit_nodes[spot], None))
+            self.carrying.connect(START, spot, endless, 0, (lit_nodes[spot], None))
         for fuse, (one, other, _) in enumerate(self.ways):
             if fuse in self.lit_inside:
-                self.carrying.join(START, fuse, amounts[fuse], 0, (self.lit_inside[fuse], fuse))
-                self.carrying.join(fuse, one, endless, 0, (None, None))
-                self.carrying.join(fuse, other, endless, 0, (None, None))
+                self.carrying.connect(START, fuse, amounts[fuse], 0, (self.lit_inside[fuse], fuse))
+                self.carrying.connect(fuse, one, endless, 0, (None, None))
+                self.carrying.connect(fuse, other, endless, 0, (None, None))
             else:
-                self.carrying.join(one, other, amounts[fuse], amounts[fuse], (None, fuse))
+                self.carrying.connect(one, other, amounts[fuse], amounts[fuse], (None, fuse))
         self.before = list(self.carrying.room)
         self.carrying.fill(START, node)
 
